@@ -170,6 +170,94 @@ def expression_faults(node, own):
             yield f"L25 {node.attr}"
 
 
+def called(node):
+    return node.func.id if isinstance(node, ast.Call) and isinstance(node.func, ast.Name) else None
+
+
+def is_plain(node):
+    """A plain value, as the top of a file may hold."""
+    if isinstance(node, (ast.List, ast.Tuple)):
+        return all(map(is_plain, node.elts))
+    if isinstance(node, ast.Dict):
+        return all(map(is_plain, node.keys + node.values))
+    if isinstance(node, ast.UnaryOp) and isinstance(node.op, ast.USub):
+        return isinstance(node.operand, ast.Constant)
+    return isinstance(node, (ast.Constant, ast.Name))
+
+
+def value_faults(tree):
+    for node in tree.body:
+        if isinstance(node, ast.Assign) and not is_plain(node.value):
+            yield f"L3 line {node.lineno}: no plain value"
+        if isinstance(node, ast.Assign) and isinstance(node.value, (ast.List, ast.Dict)):
+            if any(isinstance(part, (ast.List, ast.Dict)) for part in list(ast.walk(node.value))[1:]):
+                yield f"L15 line {node.lineno}: a list or dict within another"
+
+
+def hiding_faults(tree):
+    """Parameters and locals that are called like an import or a class of the file."""
+    taken = {node.name for node in tree.body if isinstance(node, ast.ClassDef)}
+    for node in tree.body:
+        if isinstance(node, ast.ImportFrom):
+            taken.update(alias.asname or alias.name for alias in node.names)
+    for node in ast.walk(tree):
+        if isinstance(node, ast.arg) and node.arg in taken:
+            yield f"L15 {node.arg} hides an import or a class, line {node.lineno}"
+        if isinstance(node, ast.Name) and isinstance(node.ctx, ast.Store) and node.id in taken:
+            yield f"L15 {node.id} hides an import or a class, line {node.lineno}"
+
+
+def is_walked(node, parent):
+    """Whether what can be walked but once is walked where it stands."""
+    if isinstance(parent, (ast.For, ast.comprehension)):
+        return parent.iter is node
+    if not isinstance(parent, ast.Call) or parent.args[:1] != [node]:
+        return False
+    if called(parent) in ("min", "max"):
+        return len(parent.args) == 1
+    if isinstance(parent.func, ast.Attribute):
+        return parent.func.attr == "join" and isinstance(parent.func.value, ast.Constant)
+    return called(parent) in ("list", "tuple", "dict", "sorted", "sum", "any", "all", "enumerate", "zip")
+
+
+def is_set_in_place(node, parent):
+    if isinstance(parent, ast.Compare):
+        return all(isinstance(op, (ast.In, ast.NotIn, ast.Eq, ast.NotEq)) for op in parent.ops)
+    if isinstance(parent, ast.BinOp):
+        return isinstance(parent.op, (ast.Sub, ast.BitAnd, ast.BitOr, ast.BitXor))
+    return called(parent) in ("sorted", "len") and not parent.keywords
+
+
+KEYWORDS = {
+    "sorted": ("key", "reverse"), "min": ("key", "default"), "max": ("key", "default"), "sum": ("start",),
+    "enumerate": ("start",), "zip": ("strict",),
+}
+
+
+def call_faults(tree, own):
+    for parent in ast.walk(tree):
+        for node in ast.iter_child_nodes(parent):
+            if isinstance(node, ast.Attribute) and node.attr in OWN_METHODS and node.attr not in own:
+                if not (isinstance(parent, ast.Call) and parent.func is node) and not isinstance(parent, ast.keyword):
+                    yield f"L25 {node.attr} is handed on, line {node.lineno}"
+            if isinstance(node, ast.Name) and node.id in OWN_NAMES and not node.id[0].isupper():
+                used = isinstance(parent, (ast.Call, ast.keyword, ast.Tuple))
+                if not used or called(parent) not in (node.id, "isinstance", None):
+                    yield f"L22 {node.id} is kept, line {node.lineno}"
+            if not isinstance(node, ast.Call):
+                continue
+            method = node.func.attr if isinstance(node.func, ast.Attribute) else None
+            once = called(node) in ("zip", "enumerate", "reversed", "range") or method in ("items", "keys", "values")
+            if once and not is_walked(node, parent):
+                yield f"L23 not walked at once, line {node.lineno}"
+            if called(node) in ("set", "frozenset") and not is_set_in_place(node, parent):
+                yield f"L24 a set is kept, line {node.lineno}"
+            if called(node) in OWN_NAMES or method in OWN_METHODS and method not in own:
+                for keyword in node.keywords:
+                    if keyword.arg not in KEYWORDS.get(called(node), ()):
+                        yield f"L22 the keyword {keyword.arg}, line {node.lineno}"
+
+
 def own_names(tree):
     """Methods of the file's classes, and values given to an object in it."""
     names = set()
@@ -185,6 +273,7 @@ def faults_in(text):
     tree = ast.parse(text)
     own = own_names(tree)
     found = list(size_faults(text, tree)) + list(top_faults(tree)) + list(import_faults(tree))
+    found += list(value_faults(tree)) + list(hiding_faults(tree)) + list(call_faults(tree, own))
     for node in ast.walk(tree):
         if isinstance(node, ast.stmt):
             found.extend(f"{fault}, line {node.lineno}" for fault in statement_faults(node))

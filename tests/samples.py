@@ -9,9 +9,21 @@ class Source:
     def __init__(self, seed):
         self.state = seed
 
-    def whole(self, low, high):
+    def word(self):
         self.state = (self.state * 6364136223846793005 + 1442695040888963407) % 2 ** 64
-        return low + (self.state >> 20) % (high - low + 1)
+        return self.state >> 20
+
+    def whole(self, low, high):
+        """A word has 44 bits: a wide range takes as many words as it needs, so that all figures differ."""
+        found = self.word()
+        bits = 44
+        while bits < (high - low).bit_length() + 20 and high - low >= 2 ** 40:
+            found = found << 44 | self.word()
+            bits += 44
+        return low + found % (high - low + 1)
+
+    def chosen(self, things):
+        return things[self.whole(0, len(things) - 1)]
 
     def pair(self, size):
         return told(Fraction(self.whole(-size, size), self.whole(1, size)))
@@ -21,6 +33,15 @@ class Source:
 
     def table(self, n, size=9):
         return [self.vector(n, size) for _ in range(n)]
+
+    def form(self, n, size=9):
+        """Now and then with noughts."""
+        T = self.table(n, size)
+        for i in range(n):
+            for j in range(i, n):
+                T[i][j] = (0, 1) if self.whole(0, 2) == 0 else T[i][j]
+                T[j][i] = T[i][j]
+        return T
 
 
 def told(value):

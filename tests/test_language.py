@@ -21,6 +21,23 @@ OUT = (
     "A = 'caf\u00e9'\n", "A = 'a%'\n", "# " + "a" * 120 + "\n", "def f():\n" + "    pass\n" * 40,
     "def f(a):\n    with a:\n        pass\n", "class A:\n    b = 1\n",
     "def f(a):\n    try:\n        a()\n    except Exception:\n        pass\n",
+    "A = 2 ** 30\n", "A = len('abc')\n", "A = [[1], 2]\n", "A = {1: []}\n",
+    "from everyplace.errors import NoRow\ndef f(NoRow):\n    return NoRow\n",
+    "from everyplace.tables import back\ndef f(a):\n    back = a\n    return back\n",
+    "def f(a):\n    b = zip(a, a)\n    return list(b)\n", "def f(a):\n    return range(a)\n",
+    "def f(a):\n    return list(a, range(3))\n", "def f(a):\n    return max(1, range(a))\n",
+    "def f(a):\n    b = a.items()\n    return len(b)\n", "def f(a):\n    b = set(a)\n    return b\n",
+    "def f(a):\n    return [x for x in set(a)]\n", "def f(a):\n    return sorted(set(a), key=abs)\n",
+    "def f(a):\n    b = len\n    return b(a)\n", "def f(a):\n    b = a.append\n    b(1)\n",
+    "def f(a):\n    return int(a, base=2)\n",
+)
+
+IN = (
+    "A = (1, -2, 'a')\nB = [(1, 2), (3, 4)]\n", "def f(a):\n    return sorted(set(a + [1]))\n",
+    "def f(a):\n    return [i + x for i, x in enumerate(a)]\n", "def f(a):\n    return sorted(a, key=len, reverse=True)\n",
+    "def f(a):\n    return len(set(a) | set([1]))\n", "def f(a):\n    return dict(zip(a, a, strict=True))\n",
+    "def f(a):\n    for b in a.items():\n        return b\n    return isinstance(a, (int, str))\n",
+    "def f(a):\n    return max([x for x in a], key=abs, default=0)\n", "def f(a):\n    return 3 in set(a)\n",
 )
 
 
@@ -72,6 +89,10 @@ class Language(unittest.TestCase):
     def test_what_is_out_is_found(self):
         for text in OUT:
             self.assertTrue(faults_in(text), text)
+
+    def test_what_is_in_is_let_by(self):
+        for text in IN:
+            self.assertEqual(faults_in(text), [], text)
 
 
 if __name__ == "__main__":
