@@ -1,5 +1,7 @@
 """Fractions: tuples (top, bottom) of whole numbers in lowest terms, bottom from 1 on."""
 
+from everyplace.whole import is_whole
+
 
 def common_divisor(a, b):
     while b != 0:
@@ -7,6 +9,15 @@ def common_divisor(a, b):
         a = b
         b = rest
     return abs(a)
+
+
+# Of any thing.
+def is_fraction(thing):
+    if not isinstance(thing, tuple) or len(thing) != 2:
+        return False
+    if not is_whole(thing[0]) or not is_whole(thing[1]):
+        return False
+    return thing[1] >= 1 and common_divisor(thing[0], thing[1]) == 1
 
 
 def fraction(top, bottom):

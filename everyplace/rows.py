@@ -5,7 +5,7 @@ from everyplace.fractions import common_divisor
 from everyplace.lifts import zero_by_odd, zero_by_two
 from everyplace.places import is_square_at, primes_of, says
 from everyplace.primes import GREAT_FROM, free_of, next_prime
-from everyplace.whole import square_root_or_none
+from everyplace.whole import is_whole, square_root_or_none
 
 LONGEST = 8
 # 2 to the 60.
@@ -13,7 +13,7 @@ GREAT_PRODUCT_FROM = 1152921504606846976
 
 
 def is_row_number(k):
-    return isinstance(k, int) and not isinstance(k, bool) and k != 0 and abs(k) < GREAT_FROM
+    return is_whole(k) and k != 0 and abs(k) < GREAT_FROM
 
 
 def is_row(row):
@@ -33,11 +33,17 @@ def joined(a, b):
     return (a // divisor) * (b // divisor)
 
 
-def number_of(row):
-    refuse_no_row(row)
+# The product freed of squares, however great.
+def free_product(row):
     number = 1
     for k in row:
         number = joined(number, free_of(k))
+    return number
+
+
+def number_of(row):
+    refuse_no_row(row)
+    number = free_product(row)
     if abs(number) >= GREAT_PRODUCT_FROM:
         raise TooGreat("the row's number is not below 2 to the 60 without its sign")
     return number
@@ -101,16 +107,21 @@ def first_prime_without(row):
     return p
 
 
+# Of one to nine numbers.
+def first_barring(numbers):
+    if not have_zero(numbers, 0):
+        return 0
+    if len(numbers) == 2:
+        return first_prime_without(numbers)
+    if len(numbers) > 4:
+        return None
+    barring = [p for p in primes_of(numbers) if not have_zero(numbers, p)]
+    return barring[0] if len(barring) > 0 else None
+
+
 def first_without(row):
     refuse_no_row(row)
-    if not have_zero(row, 0):
-        return 0
-    if len(row) == 2:
-        return first_prime_without(row)
-    if len(row) > 4:
-        return None
-    barring = [p for p in primes_of(row) if not have_zero(row, p)]
-    return barring[0] if len(barring) > 0 else None
+    return first_barring(row)
 
 
 def zero_by(row, p, k):

@@ -1,6 +1,15 @@
 """Tables: lists of n lists of n fractions; vectors: lists of n fractions."""
 
-from everyplace.fractions import common_divisor, fraction
+from everyplace.fractions import common_divisor, fraction, is_fraction
+
+
+# Of any thing.
+def is_vector(thing, n):
+    return isinstance(thing, list) and len(thing) == n and all([is_fraction(u) for u in thing])
+
+
+def is_table(thing, n):
+    return isinstance(thing, list) and len(thing) == n and all([is_vector(numbers, n) for numbers in thing])
 
 
 def plain_list(n, place):

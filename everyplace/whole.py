@@ -1,6 +1,11 @@
 """Whole numbers: powers, what divides them out, square roots, and backs by a number."""
 
 
+# True and False are no whole numbers.
+def is_whole(k):
+    return isinstance(k, int) and not isinstance(k, bool)
+
+
 def power(base, exponent):
     answer = 1
     for step in range(exponent):
