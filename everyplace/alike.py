@@ -3,7 +3,7 @@
 from everyplace.errors import TooGreat
 from everyplace.meets import meeting
 from everyplace.rows import free_product, noes_of, refuse_no_row, signs_of
-from everyplace.steps import all_stepped, is_free
+from everyplace.steps import all_stepped, is_free, row_behind
 from everyplace.wished import is_small
 from everyplace.zeros import values_of_two
 
@@ -52,7 +52,7 @@ def steps_of_three(one, other):
     t = meeting(one[:2], [one[2], -other[0]])
     steps = [step_to(0, 1, one[0], one[1], t)]
     steps.append(step_to(0, 2, t, one[2], other[0]))
-    row = all_stepped(one, steps)[0]
+    row = row_behind(one, steps)
     return steps + [step_to(1, 2, row[1], row[2], other[1])]
 
 

@@ -30,6 +30,11 @@ def form_of(numbers):
     return [with_number(len(numbers), i, number) for i, number in enumerate(numbers)]
 
 
+# The form that a row of whole numbers stands for.
+def form_of_row(row):
+    return form_of([(k, 1) for k in row])
+
+
 # Each list over its own bottom, and beside it the plain one: what is done to the unknowns of a form is done to its
 # lists and to its places, so that beside the lists the columns of the change arise. Told with these bottoms.
 def opened(F):

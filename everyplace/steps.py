@@ -1,11 +1,18 @@
 """Steps: changes of two unknowns of a row that leave it upright."""
 
 from everyplace.errors import NoStep
-from everyplace.fractions import fraction, times
+from everyplace.fractions import fraction, is_fraction, times
 from everyplace.primes import GREAT_FROM, free_of
 from everyplace.rows import free_product, is_row_number, joined, refuse_no_row
 from everyplace.tables import plain_table, product
-from everyplace.whole import square_root
+from everyplace.whole import is_whole, square_root
+
+
+# Whether any thing is of a step's kind; of which rows it is one is another question.
+def is_like_step(thing):
+    if not isinstance(thing, tuple) or len(thing) != 4:
+        return False
+    return is_whole(thing[0]) and is_whole(thing[1]) and is_fraction(thing[2]) and is_fraction(thing[3])
 
 
 def made_of_two(a, b, x, y):
@@ -61,6 +68,14 @@ def stepped(row, step):
 def change_of(row, step):
     refuse_no_row(row)
     return change_to(row, step, numbers_behind(row, step))
+
+
+# Without the changes, which may have many figures.
+def row_behind(row, steps):
+    answer = list(row)
+    for step in steps:
+        answer = row_with(answer, step, numbers_behind(answer, step))
+    return answer
 
 
 def all_stepped(row, steps):
