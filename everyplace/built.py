@@ -24,16 +24,14 @@ def can_be(wish):
 
 
 # The classes of the first of two numbers: with the second, and so with minus the product, it has to say as is wished.
-def classes_for(signs, number, noes, p):
-    found = [k for k in samples_at(p) if says(k, -number, p) != (p in noes)]
-    if p == 0 and signs != 1:
-        found = [k for k in found if (k > 0) == (signs == 2)]
-    return [class_at(k, p) for k in found]
+def classes_for(number, noes, p):
+    return [class_at(k, p) for k in samples_at(p) if says(k, -number, p) != (p in noes)]
 
 
+# The signs come by themselves: two of one sign have a product above 0, and then what is said at 0 is the first's sign.
 # A prime above the small ones, where there is one in both, can't be a no: the noes are even in number.
-def two_with(signs, number, noes):
-    wishes = [classes_for(signs, number, noes, p) for p in SMALL_PLACES]
+def two_with(number, noes):
+    wishes = [classes_for(number, noes, p) for p in SMALL_PLACES]
     first = number_among(list(SMALL_PLACES), wishes)
     return [first, joined(first, number)]
 
@@ -54,7 +52,7 @@ def row_with(size, signs, number, noes):
     if size == 1:
         return [number]
     if size == 2:
-        return two_with(signs, number, noes)
+        return two_with(number, noes)
     first = first_of(size, signs, number)
     left = joined(number, first)
     others = row_with(size - 1, max(signs - 1, 0), left, in_one_alone(noes, all_noes(first, left)))

@@ -4,7 +4,6 @@ from everyplace.alike import refuse_great_or_long, step_to
 from everyplace.meets import meeting
 from everyplace.places import is_square_at, primes_of, says
 from everyplace.rows import first_without, is_no, refuse_no_row
-from everyplace.whole import square_root_or_none
 
 # Rows are parted up to so many numbers.
 LONGEST_PARTED = 4
@@ -45,26 +44,16 @@ def pairs_at_prime(row, p):
     return often
 
 
-# At a prime that doesn't divide twice the product, a rest of one or two is left; of two, or none, where the row's
-# number tells so. Where that number, with its sign for so many pairs, is no square, it is none at some such prime.
-def pairs_at_others(row):
-    half = len(row) // 2
-    if len(row) % 2 == 1:
-        return half
-    number = product_of_all(row)
-    signed = -number if half % 2 == 1 else number
-    return half - 1 if square_root_or_none(signed) is None else half
-
-
 def pairs_at_nought(row):
     above = len([k for k in row if k > 0])
     return min(above, len(row) - above)
 
 
+# No other prime leaves fewer: at these a rest of at most two is left, and of two only where the product, with its sign
+# for so many pairs, is no square; then it is none, too, at 2 or at a prime that goes into it an odd number of times.
 def how_many_pairs(row):
     refuse_no_row(row)
-    counts = [pairs_at_prime(row, p) for p in primes_of(row)]
-    return min(counts + [pairs_at_nought(row), pairs_at_others(row)])
+    return min([pairs_at_nought(row)] + [pairs_at_prime(row, p) for p in primes_of(row)])
 
 
 # The two numbers change places.

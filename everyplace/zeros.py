@@ -45,15 +45,14 @@ def zero_of_five_among(numbers):
     return answer
 
 
-# Of two and more numbers free of squares, small but for one; that they have a zero is known.
+# Of two and more numbers free of squares; that they have a zero is known. Of four the last, of three the last two may be
+# other than small: so they stay in their order, and of three no product with the first is too great.
 def zero_of_free(numbers):
     if len(numbers) == 2:
         return zero_of_two(numbers)
     if len(numbers) == 3:
         return zero_of_three(numbers)
-    if len(numbers) == 4:
-        return zero_by_meeting(numbers)
-    return zero_of_five_among(numbers)
+    return zero_by_meeting(numbers) if len(numbers) == 4 else zero_of_five_among(numbers)
 
 
 # Whole numbers without a common divisor that are to one another as the fractions, not all 0.

@@ -13,10 +13,9 @@ from everyplace.pairs import how_many_pairs
 from everyplace.primes import freed
 from everyplace.rows import first_without, makes_at, noes_of, number_of
 from everyplace.texts import read_form, show_form
-from everyplace.three import zero_of_three
 from everyplace.wished import is_small
 from samples import Source, product_by_sums, table_of
-from search import BELOW_15, BELOW_30, PRIMES
+from search import BELOW_15, PRIMES
 from smalls import PLACES, SMALL_FREE, small_rows
 from test_texts import NOT_WRITTEN
 from written import fractions_in, letters_in, value_of_text, whole_numbers

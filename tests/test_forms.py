@@ -4,7 +4,7 @@ import unittest
 from fractions import Fraction
 
 from everyplace.forms import beside, form_of, is_form, led, upright, value
-from everyplace.tables import at, back, plain_table, product, size_number, turned_over
+from everyplace.tables import at, back, plain_table, product, size_number
 from kept import check_nothing_changed_or_kept
 from samples import Source, is_fraction, is_table, known, product_by_sums, table_of, told
 

@@ -392,6 +392,10 @@ class Others(Case):
                            (1, [1, -1], plain_table(2)), (1, 2, 3, 4)):
                 self.no([1, -1], (word,) + things)
 
+    def test_no_tuples(self):
+        for paper in (["zero", [1, 1]], ["none", 2], None, True, 0, 2, "zero", "none", [], (), ["pairs", 0, [1, -1], plain_table(2)]):
+            self.no([1, -1], paper)
+
     def test_words_with_the_things_of_others(self):
         right = {"zero": ([1, 1],), "makes": (0, [ONE, ONE]), "none": (2,), "change": ([1, -1], plain_table(2)),
                  "steps": ([1, -1], []), "pairs": (1, [1, -1], plain_table(2))}
