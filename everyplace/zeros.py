@@ -45,8 +45,8 @@ def zero_of_five_among(numbers):
     return answer
 
 
-# Of two and more numbers free of squares; that they have a zero is known. Of four the last, of three the last two may be
-# other than small: so they stay in their order, and of three no product with the first is too great.
+# Of two and more numbers free of squares; that they have a zero is known. Of four the last, of three the last two may
+# be other than small: so they stay in their order, and of three no product with the first is too great.
 def zero_of_free(numbers):
     if len(numbers) == 2:
         return zero_of_two(numbers)
