@@ -9,7 +9,8 @@ NO_ROWS = (
     [True], [False], [1, True], [True, 1], [1, -1, False], [True, -1, 1], [1, 2, True], [True] * 8,
     [None], [1, None], [None, 1, 1], [1, 1, None], ["1"], [1, "2"], ["", 1, -1], [1, "-1", 1], ["row"], [1, 1, "a"],
     [GREAT], [-GREAT], [1, GREAT], [1, -GREAT], [GREAT, -1, 1], [1, 1, -GREAT], [1, 2, GREAT + 1], [10 ** 12, 1, -1],
-    [1, -10 ** 60], [1] * 7 + [GREAT], [1] * 7 + [0], [1] * 8 + [None], [GREAT] * 20, [None] * 20, ["x"] * 9, [True] * 20,
+    [1, -10 ** 60], [1] * 7 + [GREAT], [1] * 7 + [0], [1] * 8 + [None], [GREAT] * 20, [None] * 20, ["x"] * 9,
+    [True] * 20,
 )
 
 JUST_ROWS = (

@@ -258,7 +258,8 @@ class Leading(unittest.TestCase):
 
 class NothingChangedOrKept(unittest.TestCase):
     def test_all(self):
-        for one, other in (([1], [1]), ([1, 1], [2, 2]), ([1, 1, 1], [1, 2, 2]), ([1, 1, 1], [2, 3, 6]), ([1, 2], [1, 3]),
+        for one, other in (([1], [1]), ([1, 1], [2, 2]), ([1, 1, 1], [1, 2, 2]), ([1, 1, 1], [2, 3, 6]),
+                           ([1, 2], [1, 3]),
                            ([1, 1, -1], [30, -30, 1]), ([1, 1], [3, 3]), ([6], [-6])):
             check_nothing_changed_or_kept(self, parting, [one, other])
             check_nothing_changed_or_kept(self, leading, [one, other])

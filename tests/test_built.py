@@ -128,7 +128,8 @@ class Wishes(unittest.TestCase):
 
 class NothingChangedOrKept(unittest.TestCase):
     def test_all(self):
-        for wish in ((1, 1, 6, []), (2, 2, 1, [2, 3]), (3, 0, -1, [0, 2]), (6, 3, -5, [0, 3]), (8, 8, 1, []), (8, 0, 2, [3])):
+        for wish in ((1, 1, 6, []), (2, 2, 1, [2, 3]), (3, 0, -1, [0, 2]), (6, 3, -5, [0, 3]), (8, 8, 1, []),
+                     (8, 0, 2, [3])):
             check_nothing_changed_or_kept(self, built, [wish])
             check_nothing_changed_or_kept(self, can_be, [wish])
 

@@ -115,9 +115,12 @@ class Case(unittest.TestCase):
 
 class AtFirst(Case):
     def test_words_ahead_of_any_form(self):
-        for said, wanted in (("row", "1"), ("signs", "1"), ("number", "1"), ("noes", "-"), ("pairs", "0"), ("zero", "none 0"),
-                             ("makes 2", "none 2"), ("makes -1", "none 0"), ("makes 3", "none 2"), ("makes 17", "none 3"),
-                             ("alike x*x", "alike"), ("alike z*z", "alike"), ("alike 4*q*q", "alike"), ("alike -x*x", "signs"),
+        for said, wanted in (("row", "1"), ("signs", "1"), ("number", "1"), ("noes", "-"), ("pairs", "0"),
+                             ("zero", "none 0"),
+                             ("makes 2", "none 2"), ("makes -1", "none 0"), ("makes 3", "none 2"),
+                             ("makes 17", "none 3"),
+                             ("alike x*x", "alike"), ("alike z*z", "alike"), ("alike 4*q*q", "alike"),
+                             ("alike -x*x", "signs"),
                              ("alike 2*x*x", "number"), ("alike x*y", "size"), ("alike 0*x*x", "noughts")):
             self.assertEqual(Clerk().say(said), wanted, said)
         self.check_makes("x*x", 9, Clerk().say("makes 9"))
@@ -131,8 +134,10 @@ class AtFirst(Case):
 
 class Forms(Case):
     def test_by_hand(self):
-        for text, wanted in (("x*x", "1"), ("3*x*x - 2*y*y + 7*z*z", "3 -2 7"), ("x*y", "1 -1"), ("4*x*x - 1/9*y*y", "1 -1"),
-                             ("0*x*x", "0"), ("x*x - x*x + 0*y*z", "0 0 0"), ("x*x + 2*x*y + y*y", "1 0"), ("-8*q*q", "-2"),
+        for text, wanted in (("x*x", "1"), ("3*x*x - 2*y*y + 7*z*z", "3 -2 7"), ("x*y", "1 -1"),
+                             ("4*x*x - 1/9*y*y", "1 -1"),
+                             ("0*x*x", "0"), ("x*x - x*x + 0*y*z", "0 0 0"), ("x*x + 2*x*y + y*y", "1 0"),
+                             ("-8*q*q", "-2"),
                              ("y*y + 0*x*x", "1 0"), ("1/2*x*x", "2"), ("6/4*x*x", "6"),
                              ("999999937*x*x", "999999937"), ("a*b + c*d", "1 -1 1 -1")):
             clerk = Clerk()
@@ -149,7 +154,8 @@ class Forms(Case):
         clerk = clerk_with("2*x*x - 3*y*y")
         before = [clerk.say(word) for word in WORDS]
         for text in (NOT_TAME + "*x*x", GREAT_WHEN_FREED + "*x*x", "x*x + " + NOT_TAME + "*y*y", "999999937/3*x*x",
-                     "x*x - " + GREAT_WHEN_FREED + "*y*y", "0*x*x + " + NOT_TAME + "*y*y", "7*x*x + 999999937*x*y - 2*y*y"):
+                     "x*x - " + GREAT_WHEN_FREED + "*y*y", "0*x*x + " + NOT_TAME + "*y*y",
+                     "7*x*x + 999999937*x*y - 2*y*y"):
             with self.assertRaises(TooGreat, msg=text):
                 clerk.say("form " + text)
             self.assertEqual([clerk.say(word) for word in WORDS], before, text)
@@ -164,7 +170,8 @@ class Forms(Case):
 
     def test_squares_are_divided_out(self):
         # Of 999950884 the root is 31622.
-        for text, wanted in (("999950884*x*x", "1"), ("3/999950884*x*x", "3"), ("32771/32771*x*x", "1"), ("-32768/2*x*x", "-1")):
+        for text, wanted in (("999950884*x*x", "1"), ("3/999950884*x*x", "3"), ("32771/32771*x*x", "1"),
+                             ("-32768/2*x*x", "-1")):
             self.assertEqual(Clerk().say("form " + text), wanted)
 
     def test_not_written_changes_nothing(self):
@@ -185,11 +192,16 @@ class Forms(Case):
 class NotAsked(unittest.TestCase):
     def test_other_rows(self):
         clerk = clerk_with("x*y")
-        for said in ("", " ", "form", "form ", "makes", "makes ", "alike", "alike ", "row ", " row", "row row", "rows", "Row", "ROW",
-                     "zero 1", "zero ", "signs x", "number 1", "noes -", "pairs 2", "what", "x*x", "form: x*x", "form  x*x",
-                     "form\tx*x", "formx*x", "form x*x ", " form x*x", "makes x", "makes 0", "makes -0", "makes +1", "makes 01",
-                     "makes -01", "makes --1", "makes - 1", "makes 1 ", "makes  1", "makes 1 2", "makes 1/2", "makes 1.0",
-                     "makes 1234567890", "makes 1000000000", "makes -1000000000", "makes 00", "alike  x*x", "alike x*x ", "alike x",
+        for said in ("", " ", "form", "form ", "makes", "makes ", "alike", "alike ", "row ", " row", "row row", "rows",
+                     "Row", "ROW",
+                     "zero 1", "zero ", "signs x", "number 1", "noes -", "pairs 2", "what", "x*x", "form: x*x",
+                     "form  x*x",
+                     "form\tx*x", "formx*x", "form x*x ", " form x*x", "makes x", "makes 0", "makes -0", "makes +1",
+                     "makes 01",
+                     "makes -01", "makes --1", "makes - 1", "makes 1 ", "makes  1", "makes 1 2", "makes 1/2",
+                     "makes 1.0",
+                     "makes 1234567890", "makes 1000000000", "makes -1000000000", "makes 00", "alike  x*x",
+                     "alike x*x ", "alike x",
                      "signs zero", "help", "~", "0", "1", "-", "makes -", "makes 1x", "none 0"):
             with self.assertRaises(NoText, msg=repr(said)):
                 clerk.say(said)
@@ -199,7 +211,8 @@ class NotAsked(unittest.TestCase):
         clerk = clerk_with("999999937*x*x - 999999937*y*y")
         with self.assertRaises(TooGreat):
             clerk.say("makes 1")
-        for said in ("makes 0", "makes one", "alike " + NOT_TAME + "*x", "alike " + NOT_TAME + "*x*x +", "form " + NOT_TAME + "*x*x*x"):
+        for said in ("makes 0", "makes one", "alike " + NOT_TAME + "*x", "alike " + NOT_TAME + "*x*x +",
+                     "form " + NOT_TAME + "*x*x*x"):
             with self.assertRaises(NoText):
                 clerk.say(said)
 
@@ -228,14 +241,16 @@ class Answers(Case):
 
     def test_noughts_alone(self):
         clerk = clerk_with("0*x*y")
-        for said, wanted in (("row", "0 0"), ("signs", "0"), ("number", "1"), ("noes", "-"), ("pairs", "0"), ("makes 1", "none 0"),
+        for said, wanted in (("row", "0 0"), ("signs", "0"), ("number", "1"), ("noes", "-"), ("pairs", "0"),
+                             ("makes 1", "none 0"),
                              ("makes -17", "none 0"), ("makes 999999937", "none 0")):
             self.assertEqual(clerk.say(said), wanted)
         self.check_zero("0*x*y", clerk.say("zero"))
 
     def test_noughts_and_great_others(self):
         # There is a zero, whatever the other numbers; they make nothing that is not small.
-        for text in ("999999937*x*x + 0*y*y", "999999937*x*x + 2*x*y + 1/999999937*y*y", "999999937*a*a + 3*b*b + 7*c*c + 5*d*d + 0*e*e"):
+        for text in ("999999937*x*x + 0*y*y", "999999937*x*x + 2*x*y + 1/999999937*y*y",
+                     "999999937*a*a + 3*b*b + 7*c*c + 5*d*d + 0*e*e"):
             clerk = clerk_with(text)
             self.assertIn("0", clerk.say("row").split(" "))
             self.check_zero(text, clerk.say("zero"))
@@ -246,7 +261,8 @@ class Answers(Case):
         self.check_makes("2*x*x + 0*y*y", 18, clerk_with("2*x*x + 0*y*y").say("makes 18"))
 
     def test_fractions_as_numbers(self):
-        for text in ("1/2*x*x - 2/9*y*y", "3/4*x*x + 5/6*x*y - 1/7*y*y", "1/3*a*b + 1/5*b*c - 2/7*a*c", "7/13*x*x + 13/7*y*y - 3/11*z*z",
+        for text in ("1/2*x*x - 2/9*y*y", "3/4*x*x + 5/6*x*y - 1/7*y*y", "1/3*a*b + 1/5*b*c - 2/7*a*c",
+                     "7/13*x*x + 13/7*y*y - 3/11*z*z",
                      "1/2*a*a + 1/3*b*b + 1/5*c*c - 1/7*d*d - 1/11*a*b"):
             self.check_all(text)
         self.check_zero("1/2*x*x - 2/9*y*y", clerk_with("1/2*x*x - 2/9*y*y").say("zero"))
@@ -298,7 +314,8 @@ class Zeros(Case):
                 clerk_with(written(row)).say("zero")
 
     def test_the_place_is_told_whatever_the_numbers(self):
-        for row in ([999999937], [999999937, 999999929], [-1, -999999937, -999999929], [17, 19, 23, 29], [999999937] * 8,
+        for row in ([999999937], [999999937, 999999929], [-1, -999999937, -999999929], [17, 19, 23, 29],
+                    [999999937] * 8,
                     [1, 1, -999999937 + 34], [1, -2, 5 * 1009], [1, 1, -3 * 1009, -3 * 1009]):
             place = first_without(row_by_functions(written(row)))
             self.assertIsNotNone(place)
@@ -309,8 +326,10 @@ class Zeros(Case):
 
 class Makes(Case):
     def test_the_first_place(self):
-        for text, c, wanted in (("x*x", -4, 0), ("x*x", 2, 2), ("x*x", 17, 3), ("x*x + y*y", 3, 2), ("x*x + y*y", -3, 0),
-                                ("x*x + y*y + z*z", 7, 2), ("x*x + y*y + z*z", -7, 0), ("x*x - 3*y*y", -1, 2), ("2*x*x", 3, 2),
+        for text, c, wanted in (("x*x", -4, 0), ("x*x", 2, 2), ("x*x", 17, 3), ("x*x + y*y", 3, 2),
+                                ("x*x + y*y", -3, 0),
+                                ("x*x + y*y + z*z", 7, 2), ("x*x + y*y + z*z", -7, 0), ("x*x - 3*y*y", -1, 2),
+                                ("2*x*x", 3, 2),
                                 ("x*x + y*y", 21, 3), ("x*x + y*y + z*z + w*w", -1, 0), ("x*x", 1009, 11)):
             row = row_by_functions(text)
             self.assertEqual([p for p in (0,) + tuple(PRIMES[:40]) if not makes_at(row, c, p)][0], wanted, (text, c))
@@ -325,7 +344,8 @@ class Makes(Case):
 
     def test_too_great(self):
         for text, c in (("17*x*x", 17), ("x*x - y*y", 17), ("x*x - 17*y*y", 1),
-                        ("x*x + y*y", 17), ("x*x + 17*y*y", 1), ("x*x + y*y + z*z + w*w", 999999937), ("17*x*x - 17*y*y", 2),
+                        ("x*x + y*y", 17), ("x*x + 17*y*y", 1), ("x*x + y*y + z*z + w*w", 999999937),
+                        ("17*x*x - 17*y*y", 2),
                         (written([1] * 7 + [17]), 1), (written([1] * 8), 17)):
             row = row_by_functions(text)
             self.assertTrue(all(makes_at(row, c, p) for p in PLACES + (17, 999999937)))
@@ -335,8 +355,10 @@ class Makes(Case):
         self.check_makes("x*x", 289, Clerk().say("makes 289"))
 
     def test_the_place_is_told_whatever_the_numbers(self):
-        for text, c, wanted in (("17*x*x", -17, 0), ("17*x*x", 1, None), ("999999937*x*x + 999999929*y*y", -1, 0), ("x*x + y*y", 19, 2),
-                                ("x*x", 999999937, None), ("-x*x - 17*y*y", 999999937, 0), ("x*x + y*y + z*z", 1009 * 8 - 1, 2)):
+        for text, c, wanted in (("17*x*x", -17, 0), ("17*x*x", 1, None), ("999999937*x*x + 999999929*y*y", -1, 0),
+                                ("x*x + y*y", 19, 2),
+                                ("x*x", 999999937, None), ("-x*x - 17*y*y", 999999937, 0),
+                                ("x*x + y*y + z*z", 1009 * 8 - 1, 2)):
             row = row_by_functions(text)
             if wanted is None:
                 wanted = first_without(row + [-c])
@@ -379,10 +401,13 @@ class Alike(Case):
                 ("x*x", "x*x", "alike"), ("x*x - y*y", "a*b", "alike"), ("x*x + y*y", "2*x*x + 2*y*y", "alike"),
                 ("x*x", "x*x + y*y", "size"), ("x*x + y*y", "x*x", "size"), ("x*x", "0*x*x + 0*y*y", "size"),
                 ("x*x", "0*x*x", "noughts"), ("0*x*x", "x*x", "noughts"), ("x*x + 0*y*y", "x*x + y*y", "noughts"),
-                ("x*x - y*y", "x*x + 2*x*y + y*y", "noughts"), ("x*x + y*y", "x*x - y*y", "signs"), ("x*x", "-x*x", "signs"),
-                ("x*x + y*y", "x*x + 2*y*y", "number"), ("x*x", "2*x*x", "number"), ("x*x + y*y", "3*x*x + 3*y*y", "place 2"),
+                ("x*x - y*y", "x*x + 2*x*y + y*y", "noughts"), ("x*x + y*y", "x*x - y*y", "signs"),
+                ("x*x", "-x*x", "signs"),
+                ("x*x + y*y", "x*x + 2*y*y", "number"), ("x*x", "2*x*x", "number"),
+                ("x*x + y*y", "3*x*x + 3*y*y", "place 2"),
                 ("x*x - 3*y*y", "2*x*x - 6*y*y", "place 2"), ("x*x + y*y + 0*z*z", "0*x*x + y*y + z*z", "alike"),
-                ("0*x*x", "0*y*y", "alike"), ("0*x*y", "x*x - x*x + 0*z*z", "alike"), ("x*x + 0*y*y", "0*x*x - y*y", "signs"),
+                ("0*x*x", "0*y*y", "alike"), ("0*x*y", "x*x - x*x + 0*z*z", "alike"),
+                ("x*x + 0*y*y", "0*x*x - y*y", "signs"),
                 ("x*x + 0*y*y", "0*x*x + 2*y*y", "number"), ("x*x + y*y + 0*z*z", "3*x*x + 3*y*y + 0*z*z", "place 2"),
                 ("x*x + y*y + 0*z*z", "x*x - y*y + w*w - w*w", "signs")):
             self.check(one, other, wanted)
@@ -426,7 +451,8 @@ class Alike(Case):
     def test_agrees_with_parting(self):
         source = Source(986)
         for length in range(1, 9):
-            for one, other in zip(small_rows(source, 25, length, SMALL_FREE[:6]), small_rows(source, 25, length, SMALL_FREE[:6])):
+            for one, other in zip(small_rows(source, 25, length, SMALL_FREE[:6]),
+                                  small_rows(source, 25, length, SMALL_FREE[:6])):
                 apart = parting(one, other)
                 self.check(written(one), written(other), "alike" if apart is None else " ".join(map(str, apart)))
 

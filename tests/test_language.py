@@ -34,7 +34,8 @@ OUT = (
 
 IN = (
     "A = (1, -2, 'a')\nB = [(1, 2), (3, 4)]\n", "def f(a):\n    return sorted(set(a + [1]))\n",
-    "def f(a):\n    return [i + x for i, x in enumerate(a)]\n", "def f(a):\n    return sorted(a, key=len, reverse=True)\n",
+    "def f(a):\n    return [i + x for i, x in enumerate(a)]\n",
+    "def f(a):\n    return sorted(a, key=len, reverse=True)\n",
     "def f(a):\n    return len(set(a) | set([1]))\n", "def f(a):\n    return dict(zip(a, a, strict=True))\n",
     "def f(a):\n    for b in a.items():\n        return b\n    return isinstance(a, (int, str))\n",
     "def f(a):\n    return max([x for x in a], key=abs, default=0)\n", "def f(a):\n    return 3 in set(a)\n",

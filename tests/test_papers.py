@@ -21,7 +21,8 @@ from smalls import GREAT, SMALL_FREE, numbers_of, small_rows, with_great_square
 
 ONE, NOUGHT = (1, 1), (0, 1)
 # What stands nowhere in a right paper of row [1, -1], whatever its kind and place.
-STRANGE = (None, True, False, "", "zero", "1", [], (), [None], [True, True], [[]], ([],), [()], ["1", "1"], [1], [1, 1, 1],
+STRANGE = (None, True, False, "", "zero", "1", [], (), [None], [True, True], [[]], ([],), [()], ["1", "1"], [1],
+           [1, 1, 1],
            (1, 1), [(1, 1)], [(1, 1), (1, 1), (1, 1)], [[1, 0], [0, 1]], [[(1, 1), (0, 1)]], [[(1, 1)], [(0, 1)]],
            [[(1, 1), (0, 1)], ((0, 1), (1, 1))], [None, None], [[None, None], [None, None]])
 
@@ -102,7 +103,8 @@ class Makes(Case):
     def test_kinds(self):
         self.spoiled([1, 1], ("makes", 2, [ONE, ONE]))
         self.spoiled([1], ("makes", 1, [ONE]))
-        for x in ([1], [(2, 2)], [(1, 1, 1)], [(1,)], [(-1, -1)], [(True, 1)], [(1, True)], [[1, 1]], ((1, 1),), (1, 1), 1,
+        for x in ([1], [(2, 2)], [(1, 1, 1)], [(1,)], [(-1, -1)], [(True, 1)], [(1, True)], [[1, 1]], ((1, 1),), (1, 1),
+                  1,
                   [None], ["1"], [("1", "1")], [(None, 1)], [((1, 1), 1)], [(-2, 2)]):
             self.no([1], ("makes", 1, x))
         for x in ([(0, 0)], [(1, 0)], [(0, 2)], [(0, -1)], [0]):
@@ -151,7 +153,8 @@ class Barred(Case):
         self.assertEqual(len(seen), 16)
 
     def test_squares_in_the_numbers(self):
-        for row in ([4], [4, 1], [9, 1], [9, 1, 1], [1, 1, 12], [4, 4, 4], [1, 1, 9], [18, 1, 1], [27, 3, 1], [16, 16, 16, 7],
+        for row in ([4], [4, 1], [9, 1], [9, 1, 1], [1, 1, 12], [4, 4, 4], [1, 1, 9], [18, 1, 1], [27, 3, 1],
+                    [16, 16, 16, 7],
                     [1, 4, 9, 25], [8, 2, 2], [1, 1, 1, 28], [1, 1, 1, 4 * 7 * 9], [25, 2 * 25], [3 * 49, 1, 4]):
             for p in (0, 2, 3, 5, 7):
                 self.check(row, p)
@@ -261,7 +264,8 @@ class Change(Case):
 
     def test_kinds(self):
         self.spoiled([1, -1], ("change", [1, -1], plain_table(2)))
-        for T in ([[1]], [[(2, 2)]], [[(True, 1)]], [(ONE,)], ([ONE],), [ONE], ONE, [[[1, 1]]], [[None]], [["1"]], "", 1,
+        for T in ([[1]], [[(2, 2)]], [[(True, 1)]], [(ONE,)], ([ONE],), [ONE], ONE, [[[1, 1]]], [[None]], [["1"]], "",
+                  1,
                   [[(-1, -1)]], [[(1, 1, 1)]], [[ONE], [ONE]], [[ONE, ONE]]):
             self.no([1], ("change", [1], T))
 
@@ -300,7 +304,8 @@ class Steps(Case):
 
     def test_no_steps(self):
         for step in ((1, 0, ONE, ONE), (0, 0, ONE, ONE), (0, 2, ONE, ONE), (-1, 1, ONE, ONE), (0, 1, NOUGHT, NOUGHT),
-                     (0, 1, (1, 2), NOUGHT), (0, 1, (2, 1), NOUGHT), (0, 10 ** 50, ONE, ONE), (0, 1, (10 ** 9, 1), ONE)):
+                     (0, 1, (1, 2), NOUGHT), (0, 1, (2, 1), NOUGHT), (0, 10 ** 50, ONE, ONE),
+                     (0, 1, (10 ** 9, 1), ONE)):
             for other in ([1, 1], [2, 2], [4, 1], [5, 5]):
                 self.no([1, 1], ("steps", other, [step]))
                 self.no([1, 1], ("steps", other, [(0, 1, ONE, ONE), step]))
@@ -316,8 +321,10 @@ class Steps(Case):
         self.spoiled([1, 1], ("steps", [2, 2], [(0, 1, ONE, ONE)]))
         self.spoiled([1, 1], ("steps", [1, 1], []))
         for step in ([0, 1, ONE, ONE], (0, 1, ONE), (0, 1, ONE, ONE, ONE), (), (0, 1, 1, 1), (False, True, ONE, ONE),
-                     (0, True, ONE, ONE), (False, 1, ONE, ONE), (0, 1, (2, 2), ONE), (0, 1, ONE, (3, 3)), (0, 1, [1, 1], ONE),
-                     (0, 1, ONE, None), (None, 1, ONE, ONE), ("0", "1", ONE, ONE), (0, 1, (True, 1), ONE), None, 0, "step",
+                     (0, True, ONE, ONE), (False, 1, ONE, ONE), (0, 1, (2, 2), ONE), (0, 1, ONE, (3, 3)),
+                     (0, 1, [1, 1], ONE),
+                     (0, 1, ONE, None), (None, 1, ONE, ONE), ("0", "1", ONE, ONE), (0, 1, (True, 1), ONE), None, 0,
+                     "step",
                      (0, 1, (-1, -1), ONE), (0, 1, (1, 0), ONE), ((0, 1), (0, 1), ONE, ONE), (0, 1, ONE, (1, 1, 1))):
             self.no([1, 1], ("steps", [2, 2], [step]))
             self.no([1, 1], ("steps", [1, 1], [step]))
@@ -393,7 +400,8 @@ class Others(Case):
                 self.no([1, -1], (word,) + things)
 
     def test_no_tuples(self):
-        for paper in (["zero", [1, 1]], ["none", 2], None, True, 0, 2, "zero", "none", [], (), ["pairs", 0, [1, -1], plain_table(2)]):
+        for paper in (["zero", [1, 1]], ["none", 2], None, True, 0, 2, "zero", "none", [], (),
+                      ["pairs", 0, [1, -1], plain_table(2)]):
             self.no([1, -1], paper)
 
     def test_words_with_the_things_of_others(self):
@@ -413,8 +421,10 @@ class Others(Case):
 
     def test_no_row_ahead_of_all_else(self):
         for row in NO_ROWS:
-            for paper in (("zero", [1, 1]), ("none", 0), ("none", 4), ("makes", 1, [ONE]), ("change", row, None), ("what",),
-                          ("steps", row, []), ("pairs", 0, row, plain_table(1)), ("zero", None), ("change", [1], [[ONE]])):
+            for paper in (("zero", [1, 1]), ("none", 0), ("none", 4), ("makes", 1, [ONE]), ("change", row, None),
+                          ("what",),
+                          ("steps", row, []), ("pairs", 0, row, plain_table(1)), ("zero", None),
+                          ("change", [1], [[ONE]])):
                 with self.assertRaises(NoRow, msg=(row, paper)):
                     lets_by(row, paper)
         for row in JUST_ROWS:
@@ -422,7 +432,8 @@ class Others(Case):
             self.yes(row, ("change", list(row), plain_table(len(row))))
 
     def test_nothing_changed_or_kept(self):
-        for paper in (("zero", [1, 1]), ("none", 0), ("none", 3), ("makes", 0, [ONE, ONE]), ("change", [1, -1], plain_table(2)),
+        for paper in (("zero", [1, 1]), ("none", 0), ("none", 3), ("makes", 0, [ONE, ONE]),
+                      ("change", [1, -1], plain_table(2)),
                       ("steps", [1, -1], []), ("steps", [3, -3], [(0, 1, (2, 1), ONE)]),
                       ("pairs", 1, [1, -1], plain_table(2)), ("zero", [None, [1]]), ("steps", [1, 2], [[1]])):
             check_nothing_changed_or_kept(self, lets_by, [[1, -1], paper])

@@ -185,7 +185,8 @@ class FreeOf(unittest.TestCase):
 
 class NothingChangedOrKept(unittest.TestCase):
     def test_all(self):
-        for function, handed in ((parts, [360]), (parts, [1]), (parts, [BELOW_30]), (freed, [(-8, 9)]), (free_of, [12])):
+        for function, handed in ((parts, [360]), (parts, [1]), (parts, [BELOW_30]), (freed, [(-8, 9)]),
+                                 (free_of, [12])):
             check_nothing_changed_or_kept(self, function, handed)
 
 

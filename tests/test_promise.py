@@ -140,8 +140,10 @@ class Alike(unittest.TestCase):
     def test_by_a_change_just_where_all_four_agree(self):
         source = Source(999)
         for length in (1, 2, 3):
-            for one, other in zip(small_rows(source, 120, length, SMALL_FREE[:9]), small_rows(source, 120, length, SMALL_FREE[:9])):
-                agree = (signs_of(one), number_of(one), noes_of(one)) == (signs_of(other), number_of(other), noes_of(other))
+            for one, other in zip(small_rows(source, 120, length, SMALL_FREE[:9]),
+                                  small_rows(source, 120, length, SMALL_FREE[:9])):
+                agree = (signs_of(one), number_of(one), noes_of(one)) == (signs_of(other), number_of(other),
+                                                                          noes_of(other))
                 answer = leading(one, other)
                 self.assertEqual(answer is not None, agree, (one, other))
                 self.assertEqual(parting(one, other) is None, agree)

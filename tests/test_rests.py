@@ -14,7 +14,8 @@ GREAT_PRIMES = (BELOW_15, ABOVE_15, 1000003, 536870909, BELOW_30, 1000000007, 65
 
 def great_numbers():
     source = Source(41)
-    return [source.whole(-10 ** 9, 10 ** 9) for _ in range(20)] + [source.whole(-10 ** 299, 10 ** 299) for _ in range(9)]
+    return [source.whole(-10 ** 9, 10 ** 9) for _ in range(20)] + [source.whole(-10 ** 299,
+                                                                                10 ** 299) for _ in range(9)]
 
 
 class SquareBy(unittest.TestCase):

@@ -180,13 +180,15 @@ class ZeroAt(unittest.TestCase):
                 self.check(row, p)
 
     def test_squares_in_the_numbers(self):
-        for row in ([4, 1], [-4, 1], [1, 1, 4], [1, 2, 4], [3, 3, 12], [9, 1, 1], [9, 3, 1], [1, 1, 9, 9], [2, 8, 32, 1],
+        for row in ([4, 1], [-4, 1], [1, 1, 4], [1, 2, 4], [3, 3, 12], [9, 1, 1], [9, 3, 1], [1, 1, 9, 9],
+                    [2, 8, 32, 1],
                     [16, -3, 5], [27, 1, 1], [27, 2, 1], [1, 1, 1, 4], [1, 1, 1, 28], [25, 2, 5, 10]):
             for p in SMALL:
                 self.check(row, p)
 
     def test_four_that_have_none(self):
-        for row, p in (([1, 1, 1, 1], 2), ([1, 1, 3, 3], 3), ([1, -2, 5, -10], 5), ([1, 1, 7, 7], 7), ([1, 1, 2, 2], 2)):
+        for row, p in (([1, 1, 1, 1], 2), ([1, 1, 3, 3], 3), ([1, -2, 5, -10], 5), ([1, 1, 7, 7], 7),
+                       ([1, 1, 2, 2], 2)):
             self.check(row, p)
             if p != 2:
                 self.assertIs(zero_at(row, p), False)

@@ -24,16 +24,20 @@ def is_written(text):
 
 
 NOT_WRITTEN = (
-    "", " ", "0", "1", "-", "+", "x", "*", "x*", "*x", "x*x*", "*x*x", "x*x*x", "2*x", "2x*x", "2*xx", "xx", "x**x", "x^2",
+    "", " ", "0", "1", "-", "+", "x", "*", "x*", "*x", "x*x*", "*x*x", "x*x*x", "2*x", "2x*x", "2*xx", "xx", "x**x",
+    "x^2",
     "x*x ", " x*x", "x*x  + y*y", "x*x +  y*y", "x*x+y*y", "x*x +y*y", "x*x+ y*y", "x*x + ", "x*x +", "+ x*x", "+x*x",
-    "- x*x", "--x*x", "-+x*x", "x*x + -y*y", "x*x - -y*y", "x*x + + y*y", "x*x * y*y", "x*x y*y", "x*x , y*y", "x*x / y*y",
+    "- x*x", "--x*x", "-+x*x", "x*x + -y*y", "x*x - -y*y", "x*x + + y*y", "x*x * y*y", "x*x y*y", "x*x , y*y",
+    "x*x / y*y",
     "x * x", "2 *x*x", "2* x*x", "2*x* x", "2*x *x", "x*x\n", "\tx*x", "x*x\n+ y*y", "x*x\t+\ty*y",
     "01*x*x", "00*x*x", "007*x*x", "1234567890*x*x", "0000000000*x*x", "1000000000*x*x", "1/1234567890*x*x",
     "1/0*x*x", "0/0*x*x", "1/01*x*x", "01/1*x*x", "1/*x*x", "/2*x*x", "1//2*x*x", "1/2/3*x*x", "1/-2*x*x", "-1/-2*x*x",
     "1 /2*x*x", "1/ 2*x*x", "1.5*x*x", "1e3*x*x", "+1*x*x", "-*x*x", "x*2*x", "x*x*2", "2*3*x*x", "x/2*x", "x*x/2",
-    "X*x", "x*X", "A*B", "1*1", "2*1*1", "a*1", "x1*x1", "_*_", "x*y z", "(x*x)", "x*x;", "x*x + 0", "0 + x*x", "x*x + 3",
+    "X*x", "x*X", "A*B", "1*1", "2*1*1", "a*1", "x1*x1", "_*_", "x*y z", "(x*x)", "x*x;", "x*x + 0", "0 + x*x",
+    "x*x + 3",
     "\u00e4*x", "\u0663*x*x", "\u00b2*x*x", "\uff11*x*x", "x\u00d7x", "x*x \u2212 y*y", "x*x\u00a0+ y*y", "1_0*x*x",
-    "a*b + c*d + e*f + g*h + i*i", "a*a + b*b + c*c + d*d + e*e + f*f + g*g + h*h + i*i", "0*a*b + c*d + e*f + g*h + 0*y*z",
+    "a*b + c*d + e*f + g*h + i*i", "a*a + b*b + c*c + d*d + e*e + f*f + g*g + h*h + i*i",
+    "0*a*b + c*d + e*f + g*h + 0*y*z",
 )
 
 
@@ -63,8 +67,10 @@ class Read(unittest.TestCase):
         self.assertEqual(read_form("z*z + a*a"), ("az", [[(1, 1), (0, 1)], [(0, 1), (1, 1)]]))
 
     def test_fractions(self):
-        for text in ("2/4*x*x", "0/7*x*x", "0*x*x", "-0*x*x", "999999999*x*x", "1/999999999*x*x", "999999999/999999999*x*x",
-                     "-123456789/987654321*x*y", "10*x*x", "100000000/100000000*x*y", "6/3*x*y", "1*x*x", "1/1*x*x", "9/1*x*y"):
+        for text in ("2/4*x*x", "0/7*x*x", "0*x*x", "-0*x*x", "999999999*x*x", "1/999999999*x*x",
+                     "999999999/999999999*x*x",
+                     "-123456789/987654321*x*y", "10*x*x", "100000000/100000000*x*y", "6/3*x*y", "1*x*x", "1/1*x*x",
+                     "9/1*x*y"):
             self.check(text)
         self.assertEqual(read_form("2/4*x*x")[1], [[(1, 2)]])
         self.assertEqual(read_form("0/7*x*x")[1], [[(0, 1)]])
@@ -110,7 +116,8 @@ class Read(unittest.TestCase):
         letters, form = read_form("3*x*x - 5*x*y + 1/2*y*y - z*x")
         self.assertEqual(letters, "xyz")
         for x, y, z in ((1, 2, 3), (-1, 5, 0), (Fraction(1, 2), 3, Fraction(-2, 7))):
-            self.assertEqual(known(value(form, [told(x), told(y), told(z)])), 3 * x * x - 5 * x * y + Fraction(y * y) / 2 - z * x)
+            self.assertEqual(known(value(form, [told(x), told(y), told(z)])),
+                             3 * x * x - 5 * x * y + Fraction(y * y) / 2 - z * x)
 
     def test_not_written(self):
         for text in NOT_WRITTEN:
@@ -139,11 +146,13 @@ class Read(unittest.TestCase):
 class Show(unittest.TestCase):
     def test_by_hand(self):
         for text, wanted in (("x*x", "x*x"), ("-x*x", "-x*x"), ("1*x*x", "x*x"), ("y*x", "x*y"), ("x*y + y*x", "2*x*y"),
-                             ("2/4*x*x", "1/2*x*x"), ("6/3*x*x", "2*x*x"), ("z*z + x*x", "x*x + z*z"), ("x*x - x*x", "0"),
+                             ("2/4*x*x", "1/2*x*x"), ("6/3*x*x", "2*x*x"), ("z*z + x*x", "x*x + z*z"),
+                             ("x*x - x*x", "0"),
                              ("0*x*y", "0"), ("-3*b*a - a*a", "-a*a - 3*a*b"), ("y*y - x*x", "-x*x + y*y"),
                              ("c*b + c*a + b*a", "a*b + a*c + b*c"), ("c*c + c*b + b*b + c*a + b*a + a*a",
                                                                       "a*a + a*b + a*c + b*b + b*c + c*c"),
-                             ("x*x - 1/2*x*y", "x*x - 1/2*x*y"), ("0*a*b + c*c", "c*c"), ("-1/1*x*y - 1*z*z", "-x*y - z*z"),
+                             ("x*x - 1/2*x*y", "x*x - 1/2*x*y"), ("0*a*b + c*c", "c*c"),
+                             ("-1/1*x*y - 1*z*z", "-x*y - z*z"),
                              ("-7/2*x*y", "-7/2*x*y"), ("10/10*x*y - 10/5*y*y", "x*y - 2*y*y")):
             letters, form = read_form(text)
             self.assertEqual(show_form(letters, form), wanted)

@@ -116,7 +116,8 @@ class ThreeUnknowns(unittest.TestCase):
         source = Source(112)
         told = 0
         for _ in range(400):
-            row = [source.chosen([1, -1, 2, 3])] + [source.whole(2 ** 20, 2 ** 28) * source.chosen([1, -1]) for _ in "bc"]
+            row = [source.chosen([1,
+                                  -1, 2, 3])] + [source.whole(2 ** 20, 2 ** 28) * source.chosen([1, -1]) for _ in "bc"]
             has = first_without(row) is None
             told += has
             self.check(row, has)

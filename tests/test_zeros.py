@@ -142,7 +142,8 @@ class Zeros(unittest.TestCase):
 
     def test_too_great(self):
         for k in NOT_SMALL:
-            for row in ([k], [k, -k], [k, 1], [1, k, -1], [-1, 1, 1, k], [1, 1, 1, 1, k], [k] * 8, [1, -1] * 3 + [1, k]):
+            for row in ([k], [k, -k], [k, 1], [1, k, -1], [-1, 1, 1, k], [1, 1, 1, 1, k], [k] * 8,
+                        [1, -1] * 3 + [1, k]):
                 with self.assertRaises(TooGreat, msg=row):
                     zero_of(row)
 
